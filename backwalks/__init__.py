@@ -1,0 +1,1 @@
+"""Backwalks: walks that look the same backwards, told exactly, in fractions."""

@@ -1,0 +1,89 @@
+"""Fractions and determinants."""
+
+import random
+import unittest
+from fractions import Fraction
+from itertools import permutations
+
+from backwalks import exact
+from tests.helpers import ODD_VALUES, pair
+
+
+def determinant_by_hand(rows):
+    """The sum over all orders of the columns."""
+    found = Fraction(0)
+    for order in permutations(range(len(rows))):
+        term = Fraction(1)
+        for row, column in enumerate(order):
+            term *= rows[row][column]
+        turned = sum(order[i] > order[j] for j in range(len(order)) for i in range(j))
+        found += (-1) ** turned * term
+    return found
+
+
+class KindsTest(unittest.TestCase):
+
+    def test_whole_numbers(self):
+        for value in (0, 1, -1, 10 ** 500, -10 ** 500):
+            self.assertIs(exact.is_whole(value), True)
+        for value in (True, False, None, "1", b"1", Fraction(1), (1,), [1], {1}):
+            self.assertIs(exact.is_whole(value), False)
+
+    def test_places(self):
+        self.assertEqual([exact.is_place(value, 3) for value in (-1, 0, 1, 2, 3)], [False, True, True, True, False])
+        self.assertEqual([exact.is_place(value, 3) for value in (True, False, None, "0")], [False] * 4)
+
+    def test_fractions(self):
+        for value in ((0, 1), (1, 1), (-1, 1), (-3, 2), (7, 9), (10 ** 399, 10 ** 399 + 1)):
+            self.assertIs(exact.is_fraction(value), True)
+        wrong = [(0, 2), (2, 2), (2, 4), (-2, 4), (0, 0), (1, 0), (0, -1), (1, -2), (-1, -2), (True, 1), (1, True),
+                 (False, 1), [1, 2], (1,), (1, 2, 3), (1, 2, 1), ((1, 2), (1, 2)), ("1", "2"), (1, "2"), (1, None)]
+        for value in wrong + [value for value in ODD_VALUES]:
+            self.assertIs(exact.is_fraction(value), False)
+
+    def test_fractions_from_nil(self):
+        told = [exact.is_from_nil(value) for value in ((0, 1), (1, 3), (5, 1), (-1, 3), (2, 4), 1, None)]
+        self.assertEqual(told, [True, True, True, False, False, False, False])
+
+
+class ReckoningTest(unittest.TestCase):
+
+    def test_lowest(self):
+        for top in range(-6, 7):
+            for bottom in (-6, -4, -1, 1, 2, 3, 6):
+                self.assertEqual(exact.lowest(top, bottom), pair(Fraction(top, bottom)))
+
+    def test_two_fractions(self):
+        numbers = [Fraction(top, bottom) for top in range(-4, 5) for bottom in (1, 2, 3, 4, 7)]
+        for one in numbers:
+            for other in numbers:
+                told = [exact.plus(pair(one), pair(other)), exact.minus(pair(one), pair(other)),
+                        exact.times(pair(one), pair(other))]
+                self.assertEqual(told, [pair(one + other), pair(one - other), pair(one * other)])
+                if other != 0:
+                    self.assertEqual(exact.over(pair(one), pair(other)), pair(one / other))
+
+    def test_rows(self):
+        self.assertEqual([exact.total(()), exact.product_of(())], [(0, 1), (1, 1)])
+        row = ((1, 2), (-2, 3), (5, 1))
+        self.assertEqual([exact.total(row), exact.product_of(row)], [(29, 6), (-5, 3)])
+        self.assertEqual([exact.total(list(row)), exact.product_of(((1, 2), (0, 1), (3, 1)))], [(29, 6), (0, 1)])
+
+    def test_long_product(self):
+        self.assertEqual(exact.product_of([(2, 3)] * 400), (2 ** 400, 3 ** 400))
+
+    def test_determinants(self):
+        self.assertEqual([exact.determinant([]), exact.determinant([[(3, 7)]])], [(1, 1), (3, 7)])
+        source = random.Random(3)
+        for many in range(1, 6):
+            for _ in range(60):
+                rows = [[Fraction(source.choice((0, 0, 1, -2, 3)), source.randint(1, 4)) for _ in range(many)]
+                        for _ in range(many)]
+                told = [[pair(number) for number in row] for row in rows]
+                before = [list(row) for row in told]
+                self.assertEqual(exact.determinant(told), pair(determinant_by_hand(rows)))
+                self.assertEqual(told, before)
+
+
+if __name__ == "__main__":
+    unittest.main()
