@@ -11,8 +11,8 @@ LIBRARY = {
     "itertools": {"product", "combinations", "permutations"},
 }
 BUILTINS = set("""
-    len range enumerate zip min max sum abs sorted reversed int str bool bytes list tuple dict set frozenset isinstance ord
-    repr any all divmod iter next map Exception ValueError TypeError KeyError IndexError LookupError ZeroDivisionError
+    len range enumerate zip min max sum abs sorted reversed int str bool bytes list tuple dict set frozenset isinstance
+    ord repr any all divmod iter next map Exception ValueError TypeError KeyError IndexError LookupError ZeroDivisionError
     ArithmeticError OverflowError RuntimeError NotImplementedError StopIteration NotImplemented
 """.split())
 METHODS = {"__init__", "__eq__", "__repr__", "__str__", "__len__", "__enter__", "__exit__", "__call__", "__bool__"}

@@ -163,8 +163,9 @@ class SeenChanceTest(unittest.TestCase):
             check_raises(self, InvalidPlaces, {"index": None}, lambda: seen_chance(LINE, value))
 
     def test_the_first_that_is_no_place(self):
-        wrong = [((3,), 0), ((-1,), 0), ((0, 1, 3), 2), ((0, -1, 3), 1), ((0, True), 1), ((False, 7), 0), ((0, 1, 1, None), 3),
-                 ((0, (1,)), 1), (("0", 0), 0), ((0, 1, 2, [0], 9), 3), ((0, Fraction(1)), 1), ((0, {0}), 1)]
+        wrong = [((3,), 0), ((-1,), 0), ((0, 1, 3), 2), ((0, -1, 3), 1), ((0, True), 1), ((False, 7), 0),
+                 ((0, 1, 1, None), 3), ((0, (1,)), 1), (("0", 0), 0), ((0, 1, 2, [0], 9), 3), ((0, Fraction(1)), 1),
+                 ((0, {0}), 1)]
         for value, index in wrong:
             check_raises(self, InvalidPlaces, {"index": index}, lambda: seen_chance(LINE, value))
             check_raises(self, InvalidPlaces, {"index": index}, lambda: seen_chance(places=value, walk=LINE))
