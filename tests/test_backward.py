@@ -230,7 +230,8 @@ class WrongWalksTest(unittest.TestCase):
 
     def test_no_walk(self):
         wrong = [(), ((HALF,),), ((ONE, NIL), (HALF, HALF)), ((HALF, THIRD), (HALF, HALF)), (((2, 2),),),
-                 (((True, 1),),), [list(row) for row in SPIN], list(SPIN), tuple(tuple((1, 7) for _ in range(7)) for _ in range(7)),
+                 (((True, 1),),), [list(row) for row in SPIN], list(SPIN),
+                 tuple(tuple((1, 7) for _ in range(7)) for _ in range(7)),
                  (SPIN[0], SPIN[1], list(SPIN[2])), ((NIL, MORE, THIRD),), SPIN[:2], SPIN + SPIN[:1]]
         for call in (backward, is_alike, unlike_ring, lambda walk: is_ring(walk, (0, 1, 2)),
                      lambda walk: products(walk, (0, 1, 2))):

@@ -12,8 +12,8 @@ LIBRARY = {
 }
 BUILTINS = set("""
     len range enumerate zip min max sum abs sorted reversed int str bool bytes list tuple dict set frozenset isinstance
-    ord repr any all divmod iter next map Exception ValueError TypeError KeyError IndexError LookupError ZeroDivisionError
-    ArithmeticError OverflowError RuntimeError NotImplementedError StopIteration NotImplemented
+    ord repr any all divmod iter next map Exception ValueError TypeError KeyError IndexError LookupError
+    ZeroDivisionError ArithmeticError OverflowError RuntimeError NotImplementedError StopIteration NotImplemented
 """.split())
 METHODS = {"__init__", "__eq__", "__repr__", "__str__", "__len__", "__enter__", "__exit__", "__call__", "__bool__"}
 NO_NODES = (ast.AsyncFunctionDef, ast.AsyncFor, ast.AsyncWith, ast.Await, ast.Global, ast.Div, ast.MatMult, ast.Import)
