@@ -6,6 +6,8 @@ from backwalks.errors import InvalidRing
 from backwalks.exact import is_place, over, product_of
 from backwalks.walks import check_walk, flows_of, shares_of
 
+SHORTEST = 3
+
 
 def backward(walk):
     """The walk as it looks when time goes backwards."""
@@ -19,19 +21,20 @@ def is_alike(walk):
     return backward(walk) == walk
 
 
-def stands_as_ring(places):
-    """Whether unlike places, three or more, begin with the least one and go on the lesser way round."""
-    return places[0] == min(places) and places[1] < places[-1]
+def is_way(value, many):
+    """Whether any value is three or more unlike ones of so many places, the first one the least."""
+    if not isinstance(value, tuple) or len(value) < SHORTEST:
+        return False
+    if not all([is_place(place, many) for place in value]):
+        return False
+    return len(set(value)) == len(value) and value[0] == min(value)
 
 
 def is_ring(walk, value):
     """Whether any value is a ring of the walk's places."""
     check_walk(walk)
-    if not isinstance(value, tuple) or len(value) < 3:
-        return False
-    if not all([is_place(place, len(walk)) for place in value]):
-        return False
-    return len(set(value)) == len(value) and stands_as_ring(value)
+    # Of the two ways round, a ring is told by the one whose second place is the lesser one.
+    return is_way(value, len(walk)) and value[1] < value[-1]
 
 
 def ring_products(walk, ring):
@@ -52,9 +55,9 @@ def products(walk, ring):
 def rings_of(many):
     """All rings of so many places, by how many places they have, then in order."""
     rings = []
-    for length in range(3, many + 1):
+    for length in range(SHORTEST, many + 1):
         for places in permutations(range(many), length):
-            if stands_as_ring(places):
+            if places[0] == min(places) and places[1] < places[-1]:
                 rings.append(places)
     return rings
 

@@ -1,4 +1,4 @@
-"""Exact numbers: fractions as pairs in lowest terms, and determinants of squares of them."""
+"""Exact numbers: fractions as pairs in lowest terms, and determinants and inverses of squares of them."""
 
 from math import gcd, lcm
 
@@ -29,6 +29,11 @@ def is_from_nil(value):
     return is_fraction(value) and value[0] >= 0
 
 
+def is_fraction_row(value, many):
+    """Whether any value is a row of so many fractions."""
+    return isinstance(value, tuple) and len(value) == many and all([is_fraction(number) for number in value])
+
+
 def lowest(top, bottom):
     """The fraction of two whole numbers, the second one not 0."""
     shared = gcd(top, bottom)
@@ -52,6 +57,23 @@ def times(one, other):
 def over(one, other):
     """The first fraction over the second one, which is not 0."""
     return lowest(one[0] * other[1], one[1] * other[0])
+
+
+def opposite(fraction):
+    return (-fraction[0], fraction[1])
+
+
+def is_below(one, other):
+    return one[0] * other[1] < other[0] * one[1]
+
+
+def least(fractions):
+    """The least one of one or more fractions."""
+    result = fractions[0]
+    for fraction in fractions:
+        if is_below(fraction, result):
+            result = fraction
+    return result
 
 
 def total(fractions):
@@ -80,39 +102,64 @@ def common_bottom(fractions):
     return shared
 
 
-def pivot_row(square):
-    """The first row that does not begin with 0; None."""
-    for at, row in enumerate(square):
-        if row[0] != 0:
-            return at
+def scaled_row(row):
+    """The row of fractions times the least number that makes it whole."""
+    shared = common_bottom(row)
+    return [top * (shared // bottom) for top, bottom in row]
+
+
+def pivot_from(rows, at):
+    """The first row from this index on that is not 0 in this column; None."""
+    for index in range(at, len(rows)):
+        if rows[index][at] != 0:
+            return index
     return None
 
 
-def condensed(square, divisor):
-    """The square one smaller that is left when the first row has cleared the first column."""
-    lead = square[0]
-    columns = range(1, len(lead))
-    # By Bareiss: what is divided is a minor times the divisor, the pivot ahead, so no rest is left.
-    return [[(row[at] * lead[0] - row[0] * lead[at]) // divisor for at in columns] for row in square[1:]]
+def cleared(rows, at, divisor):
+    """The rows when the one at this index has cleared the column of this index from all others."""
+    lead, result = rows[at], []
+    for index, row in enumerate(rows):
+        if index == at:
+            result.append(row)
+        else:
+            # By Bareiss: what is divided is a minor times the divisor, the pivot ahead, so no rest is left.
+            result.append([(number * lead[at] - row[at] * top) // divisor for number, top in zip(row, lead)])
+    return result
 
 
-def whole_determinant(rows):
-    """The determinant of a square of whole numbers."""
-    square, sign, divisor = rows, 1, 1
-    while len(square) > 0:
-        pivot = pivot_row(square)
+def reduced(rows):
+    """The rows of whole numbers, each cleared from the others, and the determinant of the square that they begin with.
+
+    Each row is then 0 in the square, but for the determinant at its own index.
+    """
+    result, divisor = list(rows), 1
+    for at in range(len(rows)):
+        pivot = pivot_from(result, at)
         if pivot is None:
-            return 0
-        # The row goes to the top past each row ahead of it, so the sign turns as often.
-        if pivot % 2 == 1:
-            sign = -sign
-        square = [square[pivot]] + square[:pivot] + square[pivot + 1:]
-        square, divisor = condensed(square, divisor), square[0][0]
-    return sign * divisor
+            return (result, 0)
+        if pivot != at:
+            # One of both is turned over, so that the determinant keeps its sign.
+            result[at], result[pivot] = [-number for number in result[pivot]], result[at]
+        result, divisor = cleared(result, at, divisor), result[at][at]
+    return (result, divisor)
 
 
 def determinant(rows):
     """The determinant of a square of fractions."""
-    bottoms = [common_bottom(row) for row in rows]
-    scaled = [[top * (shared // bottom) for top, bottom in row] for row, shared in zip(rows, bottoms)]
-    return product_of([(whole_determinant(scaled), 1)] + [(1, shared) for shared in bottoms])
+    bottoms = [(1, common_bottom(row)) for row in rows]
+    return product_of([(reduced([scaled_row(row) for row in rows])[1], 1)] + bottoms)
+
+
+def solved(square, sides):
+    """The rows that the square, times them, makes the rows of sides; None if its determinant is 0."""
+    rows, bottom = reduced([scaled_row([*row, *side]) for row, side in zip(square, sides)])
+    if bottom == 0:
+        return None
+    return [[lowest(number, bottom) for number in row[len(square):]] for row in rows]
+
+
+def inverse(square):
+    """The inverse of a square of fractions; None if its determinant is 0."""
+    places = range(len(square))
+    return solved(square, [[ONE if here == there else NIL for there in places] for here in places])

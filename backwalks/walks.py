@@ -1,6 +1,6 @@
 """Walks: what is one, its shares at rest, trees into a place, flows and the chance of a row of places."""
 
-from backwalks.errors import InvalidPlaces, InvalidWalk
+from backwalks.errors import InvalidLot, InvalidPlaces, InvalidWalk
 from backwalks.exact import NIL, ONE, determinant, is_from_nil, is_place, minus, over, product_of, times, total
 
 MOST_PLACES = 6
@@ -50,6 +50,20 @@ def check_walk(walk):
         raise InvalidWalk(walk)
 
 
+def is_lot(value, many):
+    """Whether any value is an ascending tuple of one or more of so many places."""
+    if not isinstance(value, tuple) or len(value) == 0:
+        return False
+    if not all([is_place(place, many) for place in value]):
+        return False
+    return all([here < there for here, there in zip(value, value[1:])])
+
+
+def check_lot(many, lot):
+    if not is_lot(lot, many):
+        raise InvalidLot(lot)
+
+
 def check_places(walk, places):
     if not isinstance(places, tuple) or len(places) == 0:
         raise InvalidPlaces(None)
@@ -58,21 +72,22 @@ def check_places(walk, places):
             raise InvalidPlaces(index)
 
 
-def tree_sum_into(walk, root):
-    """The sum, over all trees into the root, of the products of their chances."""
-    others = [place for place in range(len(walk)) if place != root]
-    square = []
+def tree_square(table, root):
+    """The square of rows' sums less the table, the root's row and column left out.
+
+    By the matrix tree theorem its determinant is the sum, over all trees into the root, of their products.
+    """
+    others, square = [place for place in range(len(table)) if place != root], []
     for here in others:
-        row = [minus(ONE if there == here else NIL, walk[here][there]) for there in others]
-        square.append(row)
-    # The matrix tree theorem: this determinant is the sum over the trees.
-    return determinant(square)
+        in_all = total(table[here])
+        square.append([minus(in_all if there == here else NIL, table[here][there]) for there in others])
+    return square
 
 
 def tree_sums(walk):
     """The row of the sums over the trees into each place."""
     check_walk(walk)
-    return tuple([tree_sum_into(walk, root) for root in range(len(walk))])
+    return tuple([determinant(tree_square(walk, root)) for root in range(len(walk))])
 
 
 def shares_of(walk):

@@ -46,6 +46,13 @@ class KindsTest(unittest.TestCase):
         self.assertEqual(told, [True, True, True, False, False, False, False])
 
 
+    def test_rows_of_fractions(self):
+        row = ((1, 2), (-1, 3))
+        values = (row, list(row), row[:1], row + row, ((1, 2), (2, 4)), None)
+        self.assertEqual([exact.is_fraction_row(value, 2) for value in values], [True] + [False] * 5)
+        self.assertIs(exact.is_fraction_row((), 0), True)
+
+
 class ReckoningTest(unittest.TestCase):
 
     def test_lowest(self):
@@ -62,6 +69,15 @@ class ReckoningTest(unittest.TestCase):
                 self.assertEqual(told, [pair(one + other), pair(one - other), pair(one * other)])
                 if other != 0:
                     self.assertEqual(exact.over(pair(one), pair(other)), pair(one / other))
+
+    def test_order(self):
+        numbers = [Fraction(top, bottom) for top in range(-4, 5) for bottom in (1, 2, 3, 7)]
+        for one in numbers:
+            self.assertEqual(exact.opposite(pair(one)), pair(-one))
+            for other in numbers:
+                self.assertIs(exact.is_below(pair(one), pair(other)), one < other)
+                self.assertEqual(exact.least([pair(one), pair(other)]), pair(min(one, other)))
+        self.assertEqual(exact.least([(1, 2), (-1, 3), (2, 7), (-1, 2), (0, 1)]), (-1, 2))
 
     def test_rows(self):
         self.assertEqual([exact.total(()), exact.product_of(())], [(0, 1), (1, 1)])
@@ -83,6 +99,36 @@ class ReckoningTest(unittest.TestCase):
                 before = [list(row) for row in told]
                 self.assertEqual(exact.determinant(told), pair(determinant_by_hand(rows)))
                 self.assertEqual(told, before)
+
+    def test_solved(self):
+        self.assertEqual(exact.solved([], []), [])
+        self.assertEqual(exact.solved([[(2, 3)]], [[(1, 2), (5, 1)]]), [[(3, 4), (15, 2)]])
+        source, none = random.Random(4), 0
+        for many in range(1, 6):
+            for _ in range(60):
+                rows = [[Fraction(source.choice((0, 0, 1, -2, 3)), source.randint(1, 4)) for _ in range(many)]
+                        for _ in range(many)]
+                found = [[Fraction(source.randint(-4, 4), 3) for _ in range(2)] for _ in range(many)]
+                sides = [[sum(row[k] * found[k][at] for k in range(many)) for at in range(2)] for row in rows]
+                square = [[pair(number) for number in row] for row in rows]
+                before = [list(row) for row in square]
+                told = exact.solved(square, [[pair(number) for number in row] for row in sides])
+                if determinant_by_hand(rows) == 0:
+                    none += 1
+                    self.assertIsNone(told)
+                    self.assertIsNone(exact.inverse(square))
+                else:
+                    self.assertEqual(told, [[pair(number) for number in row] for row in found])
+                    self.check_inverse(square)
+                self.assertEqual(square, before)
+        self.assertGreater(none, 30)
+
+    def check_inverse(self, square):
+        many, told = len(square), exact.inverse(square)
+        for i in range(many):
+            for j in range(many):
+                found = exact.total([exact.times(square[i][k], told[k][j]) for k in range(many)])
+                self.assertEqual(found, (int(i == j), 1))
 
 
 if __name__ == "__main__":

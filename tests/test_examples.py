@@ -38,7 +38,7 @@ class ExamplesTest(unittest.TestCase):
                 else:
                     self.assertEqual(repr(eval(row, names)), expected)
             told += expected is not None
-        self.assertGreaterEqual(told, 4)
+        self.assertGreaterEqual(told, 10)
 
     def check_error(self, row, names, expected):
         expected = eval(expected, dict(vars(errors)))

@@ -4,7 +4,8 @@ import importlib
 import inspect
 import unittest
 
-from tests.helpers import LEAN, LINE, SPIN, large_walk
+from tests.helpers import HALF, LEAN, LINE, NIL, ONE, SPIN, THIRD, large_walk
+from tests.nets import BARS, RING, large_weights
 
 LISTED = {
     "backwalks.walks": {
@@ -15,39 +16,74 @@ LISTED = {
         "backward": ["walk"], "is_alike": ["walk"], "is_ring": ["walk", "value"], "products": ["walk", "ring"],
         "unlike_ring": ["walk"],
     },
+    "backwalks.weights": {"is_weights": ["value"], "walk_of": ["weights"], "weights_of": ["walk"]},
+    "backwalks.turning": {
+        "two_way": ["walk"], "turns_of": ["walk"], "are_turns": ["walk", "value"], "by_toss": ["walk"],
+    },
+    "backwalks.within": {"kept": ["walk", "lot"], "fitted": ["walk", "shares"]},
+    "backwalks.apart": {
+        "heights_of": ["weights", "one", "two"], "flow_of": ["weights", "one", "two"],
+        "apart": ["weights", "one", "two"], "is_flow": ["weights", "one", "two", "value"],
+        "flow_cost": ["weights", "one", "two", "flow"], "height_cost": ["weights", "heights"],
+        "with_more": ["weights", "one", "two", "more"], "in_all": ["weights"],
+        "there_and_back": ["weights", "one", "two"], "apart_table": ["weights"], "weights_for": ["table"],
+    },
 }
+
+FLOW = ((NIL, ONE, NIL), ((-1, 1), NIL, NIL), (NIL, NIL, NIL))
+# For each parameter values that all functions take, whatever walk or weights of three places stand beside them.
+GIVEN = {
+    "value": [(0, 1, 2), FLOW, LINE, None], "places": [(0, 1, 0)], "ring": [(0, 1, 2)], "walk": [LINE, large_walk(3)],
+    "weights": [RING, BARS, large_weights(3)], "one": [0], "two": [1], "lot": [(0, 1), (1,)], "flow": [FLOW],
+    "shares": [(THIRD, THIRD, THIRD), (HALF, (1, 4), (1, 4))], "heights": [(ONE, NIL, (-1, 2))], "more": [ONE],
+    "table": [FLOW, ((NIL, HALF), (HALF, NIL))],
+}
+
+
+def listed():
+    """Each function of the interface with its module and parameters."""
+    for module, functions in LISTED.items():
+        for name, parameters in functions.items():
+            yield module, getattr(importlib.import_module(module), name), parameters
+
+
+def choices(parameters):
+    """Arguments for the parameters, by name, in their order."""
+    most = max(len(GIVEN[name]) for name in parameters)
+    return [{name: GIVEN[name][at % len(GIVEN[name])] for name in parameters} for at in range(most)]
 
 
 class InterfaceTest(unittest.TestCase):
 
     def test_defined_where_listed(self):
-        for module, functions in LISTED.items():
-            for name in functions:
-                self.assertEqual(getattr(importlib.import_module(module), name).__module__, module)
+        for module, function, _ in listed():
+            self.assertEqual(function.__module__, module)
 
     def test_parameters(self):
-        for module, functions in LISTED.items():
-            for name, parameters in functions.items():
-                told = inspect.signature(getattr(importlib.import_module(module), name)).parameters
-                self.assertEqual(list(told), parameters)
-                for parameter in told.values():
-                    self.assertIs(parameter.kind, inspect.Parameter.POSITIONAL_OR_KEYWORD)
-                    self.assertIs(parameter.default, inspect.Parameter.empty)
+        for _, function, parameters in listed():
+            told = inspect.signature(function).parameters
+            self.assertEqual(list(told), parameters)
+            for parameter in told.values():
+                self.assertIs(parameter.kind, inspect.Parameter.POSITIONAL_OR_KEYWORD)
+                self.assertIs(parameter.default, inspect.Parameter.empty)
 
     def test_equal_calls_return_equal_results(self):
-        rest = {"value": (0, 1, 2), "places": (0, 1, 0), "ring": (0, 1, 2)}
-        for module, functions in LISTED.items():
-            for name, parameters in functions.items():
-                function = getattr(importlib.import_module(module), name)
-                for walk in (LEAN, LINE, SPIN, large_walk(3)):
-                    if "ring" in parameters and len(walk) < 3:
-                        continue
-                    given = {each: walk if each == "walk" else rest[each] for each in parameters}
-                    before = repr(given)
-                    first = function(**given)
-                    self.assertEqual(function(**given), first)
-                    self.assertEqual(function(*given.values()), first)
-                    self.assertEqual(repr(given), before)
+        for _, function, parameters in listed():
+            for given in choices(parameters):
+                if function.__name__ == "weights_of" and given["walk"] != LINE:
+                    continue
+                before = repr(given)
+                first = function(**given)
+                self.assertEqual(function(**given), first)
+                self.assertEqual(function(*given.values()), first)
+                self.assertEqual(function(**dict(reversed(given.items()))), first)
+                self.assertEqual(repr(given), before)
+
+    def test_walks_of_other_sizes(self):
+        for walk in (LEAN, SPIN):
+            for _, function, parameters in listed():
+                if parameters == ["walk"] and (function.__name__ != "weights_of" or walk == LEAN):
+                    self.assertEqual(function(walk), function(walk=walk))
 
 
 if __name__ == "__main__":

@@ -21,6 +21,19 @@ NO_WORDS = ["type", "typing", "enum", "Enum", "Flag", "Generic", "Protocol", "AB
             "elements", "open", "input", "law", "register", "eval", "exec", "vars", "globals", "locals", "super"]
 
 
+AT_ONCE = {"range", "zip", "enumerate", "reversed", "map", "product", "combinations", "permutations"}
+VALUE_METHODS = set("""
+    append clear copy count endswith extend find get index insert isalnum isalpha isdigit islower isspace isupper items
+    join keys ljust lower lstrip partition pop remove replace reverse rfind rjust rpartition rsplit rstrip setdefault
+    split splitlines startswith strip update upper values zfill bit_length
+""".split())
+
+
+def is_call_of(node, names):
+    """Whether it is a call of one of these names."""
+    return isinstance(node, ast.Call) and isinstance(node.func, ast.Name) and node.func.id in names
+
+
 def sources():
     """The name, text and tree of each file of the package."""
     found = []
@@ -119,6 +132,34 @@ class RulesTest(unittest.TestCase):
             self.assertNotIsInstance(node.value, (float, complex), (name, node.lineno))
         for name, node in nodes_of(ast.Attribute):
             self.assertNotIn(node.attr, NO_WORDS + ["format", "args"], (name, node.lineno))
+
+    def test_called_methods(self):
+        own = {node.name for _, node in nodes_of(ast.FunctionDef)}
+        for name, node in nodes_of(ast.Call):
+            if isinstance(node.func, ast.Attribute):
+                self.assertIn(node.func.attr, VALUE_METHODS | own, (name, node.lineno))
+            self.assertTrue(isinstance(node.func, (ast.Attribute, ast.Name)), (name, node.lineno))
+
+    def test_iterated_at_once(self):
+        # What is kept of these is kept by a plain statement of its own, and by nothing else.
+        self.assertEqual([(name, node.lineno) for name, node in nodes_of(ast.GeneratorExp)], [])
+        kept = []
+        for name, node in nodes_of(ast.Assign):
+            if isinstance(node.value, (ast.Tuple, ast.List)):
+                kept += [(name, each.lineno) for each in node.value.elts if is_call_of(each, AT_ONCE)]
+        for name, node in nodes_of(ast.Return):
+            kept += [(name, node.lineno)] if is_call_of(node.value, AT_ONCE) else []
+        self.assertEqual(kept, [])
+
+    def test_sets(self):
+        for name, _, tree in SOURCES:
+            for node in ast.walk(tree):
+                for child in ast.iter_child_nodes(node):
+                    if is_call_of(child, {"set"}) or isinstance(child, (ast.Set, ast.SetComp)):
+                        told = isinstance(node, ast.Compare) or is_call_of(node, {"len", "sorted"})
+                        self.assertTrue(told, (name, child.lineno))
+        self.assertEqual([name for name, node in nodes_of(ast.Constant)
+                          if isinstance(node.value, str) and "%" in node.value], [])
 
     def test_is(self):
         for name, node in nodes_of(ast.Compare):
