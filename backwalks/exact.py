@@ -104,8 +104,17 @@ def common_bottom(fractions):
 
 def scaled_row(row):
     """The row of fractions times the least number that makes it whole."""
-    shared = common_bottom(row)
-    return [top * (shared // bottom) for top, bottom in row]
+    return scaled_by(row, common_bottom(row))
+
+
+def scaled_by(row, number):
+    """The row of fractions times a number that makes it whole."""
+    return [top * (number // bottom) for top, bottom in row]
+
+
+def whole_dot(one, other):
+    """The sum, place by place, of two rows of whole numbers multiplied."""
+    return sum([number * factor for number, factor in zip(one, other)])
 
 
 def pivot_from(rows, at):

@@ -193,3 +193,15 @@ def check_raises(case, error, kept, call):
     case.assertEqual(vars(caught.exception), kept)
     for name, value in kept.items():
         case.assertIs(type(getattr(caught.exception, name)), type(value))
+
+
+def check_given(case, error, calls, values):
+    """Let each call with each of the values raise this class of errors, which keeps the very value that was passed."""
+    for call in calls:
+        for value in values:
+            check_raises(case, error, {"given": value}, lambda: call(value))
+        given = [[ONE]]
+        with case.assertRaises(error) as caught:
+            call(given)
+        case.assertIs(caught.exception.given, given)
+        case.assertEqual(given, [[ONE]])

@@ -132,6 +132,17 @@ def apart_by_hand(weights, one, two):
     return found / trees_sum_by_hand(weights)
 
 
+def determinant_by_hand(rows):
+    """The determinant, by the numbers of the first row and what is left without their columns."""
+    if not rows:
+        return Fraction(1)
+    found = Fraction(0)
+    for at, number in enumerate(rows[0]):
+        rest = [row[:at] + row[at + 1:] for row in rows[1:]]
+        found += (-1) ** at * number * determinant_by_hand(rest)
+    return found
+
+
 def solve_by_hand(rows, column):
     """The numbers that the square makes the column; None if there are not just one such."""
     many, rows = len(rows), [[Fraction(number) for number in [*row, side]] for row, side in zip(rows, column)]

@@ -9,8 +9,8 @@ from backwalks.apart import (apart, apart_table, flow_cost, flow_of, height_cost
                              there_and_back, weights_for, with_more)
 from backwalks.errors import InvalidFlow, InvalidNumber, InvalidRow, InvalidTable, InvalidWeights
 from backwalks.weights import is_weights, walk_of
-from tests.helpers import (HALF, MORE, NIL, ODD_VALUES, ONE, SPIN, THIRD, Odd, check_raises, exact, is_told_fraction,
-                           is_told_row, is_told_table, nested, pair)
+from tests.helpers import (HALF, MORE, NIL, ODD_VALUES, ONE, SPIN, THIRD, Odd, check_given, check_raises, exact,
+                           is_told_fraction, is_told_row, is_told_table, nested, pair)
 from tests.nets import (ALL_TIES, BARS, BOTH, LOOP, NO_WEIGHTS, RING, STAR, TIE, TWO, apart_by_hand, is_net,
                         joined_without, large_weights, many_weights, parts_by_hand, solve_by_hand, some_weights,
                         ties_by_hand, unlike_pairs)
@@ -196,12 +196,9 @@ class IsFlowTest(unittest.TestCase):
         ]
         for value in wrong + ODD_VALUES:
             self.assertIs(is_flow(RING, 0, 1, value), False, value)
-            check_raises(self, InvalidFlow, {"given": value}, lambda: flow_cost(RING, 0, 1, value))
-            check_raises(self, InvalidFlow, {"given": value}, lambda: flow_cost(flow=value, two=1, one=0, weights=RING))
-        given = [STRAIGHT]
-        with self.assertRaises(InvalidFlow) as caught:
-            flow_cost(RING, 0, 1, given)
-        self.assertIs(caught.exception.given, given)
+        calls = (lambda value: flow_cost(RING, 0, 1, value),
+                 lambda value: flow_cost(flow=value, two=1, one=0, weights=RING))
+        check_given(self, InvalidFlow, calls, wrong + ODD_VALUES)
         check_raises(self, InvalidFlow, {"given": STRAIGHT}, lambda: flow_cost(RING, 1, 0, STRAIGHT))
 
     def test_by_name(self):
@@ -533,13 +530,7 @@ class ApartTableTest(unittest.TestCase):
                  ((NIL, (2, 2)), (ONE, NIL)),
                  ((NIL, 1), (1, NIL)), ((NIL, True), (True, NIL)), ((NIL, (True, 1)), (ONE, NIL)), ((0,),), ((None,),),
                  (("a",),), (((1, 0),),), (((0, 3),),), (([0, 1],),), {0: ((NIL,),)}, {((NIL,),)}, Odd(), nested(20)]
-        for value in wrong + [value for value in ODD_VALUES]:
-            check_raises(self, InvalidTable, {"given": value}, lambda: weights_for(value))
-            check_raises(self, InvalidTable, {"given": value}, lambda: weights_for(table=value))
-        given = [table]
-        with self.assertRaises(InvalidTable) as caught:
-            weights_for(given)
-        self.assertIs(caught.exception.given, given)
+        check_given(self, InvalidTable, (weights_for, lambda value: weights_for(table=value)), wrong + ODD_VALUES)
 
 
 def weights_by_hand(rows):
@@ -573,18 +564,12 @@ class WrongArgumentsTest(unittest.TestCase):
 
     def test_no_weights(self):
         for call in self.calls():
-            for value in NO_WEIGHTS + ODD_VALUES:
-                check_raises(self, InvalidWeights, {"given": value}, lambda: call(value, 0, 1))
+            check_given(self, InvalidWeights, (lambda value: call(value, 0, 1),), NO_WEIGHTS + ODD_VALUES)
             for one, two in ((None, None), (7, 0), (0, 0), (True, 1)):
                 check_raises(self, InvalidWeights, {"given": SPIN}, lambda: call(SPIN, one, two))
-        for call in (in_all, apart_table, lambda weights: height_cost(weights, (ONE,)),
-                     lambda weights: height_cost(heights=None, weights=weights)):
-            for value in NO_WEIGHTS + ODD_VALUES:
-                check_raises(self, InvalidWeights, {"given": value}, lambda: call(value))
-            given = [[ONE]]
-            with self.assertRaises(InvalidWeights) as caught:
-                call(given)
-            self.assertIs(caught.exception.given, given)
+        calls = (in_all, apart_table, lambda weights: height_cost(weights, (ONE,)),
+                 lambda weights: height_cost(heights=None, weights=weights))
+        check_given(self, InvalidWeights, calls, NO_WEIGHTS + ODD_VALUES)
 
     def test_no_places(self):
         for call in self.calls():

@@ -8,8 +8,8 @@ from backwalks.backward import backward, is_alike, is_ring, products, unlike_rin
 from backwalks.errors import InvalidRing, InvalidWalk
 from backwalks.walks import flows_of, is_walk, seen_chance, shares_of
 from tests.helpers import (ALONE, HALF, LEAN, LINE, MORE, NIL, ODD_VALUES, ONE, SPIN, SWAP, THIRD, WHEEL, Odd,
-                           check_raises, cycle_walk, exact, is_told_fraction, is_told_table, large_walk, many_walks,
-                           nearly_walks, nested, pair, rings_by_hand, walk_of_rows)
+                           check_given, check_raises, cycle_walk, exact, is_told_fraction, is_told_table, large_walk,
+                           many_walks, nearly_walks, nested, pair, rings_by_hand, walk_of_rows)
 
 WALKS = many_walks()
 SIX = tuple(tuple((1, 6) for _ in range(6)) for _ in range(6))
@@ -69,7 +69,7 @@ class BackwardTest(unittest.TestCase):
     def test_rows_told_backwards(self):
         for walk in WALKS:
             other = backward(walk)
-            for length in range(1, 4):
+            for length in range(1, 4 if len(walk) < 5 else 3):
                 for places in product(range(len(walk)), repeat=length):
                     self.assertEqual(seen_chance(other, places), seen_chance(walk, places[::-1]))
             places = tuple(range(len(walk))) * 3
@@ -233,14 +233,9 @@ class WrongWalksTest(unittest.TestCase):
                  (((True, 1),),), [list(row) for row in SPIN], list(SPIN),
                  tuple(tuple((1, 7) for _ in range(7)) for _ in range(7)),
                  (SPIN[0], SPIN[1], list(SPIN[2])), ((NIL, MORE, THIRD),), SPIN[:2], SPIN + SPIN[:1]]
-        for call in (backward, is_alike, unlike_ring, lambda walk: is_ring(walk, (0, 1, 2)),
-                     lambda walk: products(walk, (0, 1, 2))):
-            for value in wrong + ODD_VALUES:
-                check_raises(self, InvalidWalk, {"given": value}, lambda: call(value))
-            given = [[ONE]]
-            with self.assertRaises(InvalidWalk) as caught:
-                call(given)
-            self.assertIs(caught.exception.given, given)
+        calls = (backward, is_alike, unlike_ring, lambda walk: is_ring(walk, (0, 1, 2)),
+                 lambda walk: products(walk, (0, 1, 2)))
+        check_given(self, InvalidWalk, calls, wrong + ODD_VALUES)
 
 
 if __name__ == "__main__":

@@ -1,15 +1,17 @@
 """The examples of the document, each as it stands there, in tests/examples.txt.
 
 A line behind `>>> ` is a row of Python. What it tells stands in the line below: a value as Python prints it, or
-`raises` and an error with what it keeps.
+`raises` and an error with what it keeps. The examples of README.md are run, too.
 """
 
+import ast
 import os
 import unittest
 
 from backwalks import errors
 
-EXAMPLES = os.path.join(os.path.dirname(os.path.abspath(__file__)), "examples.txt")
+HERE = os.path.dirname(os.path.abspath(__file__))
+EXAMPLES, README = os.path.join(HERE, "examples.txt"), os.path.join(os.path.dirname(HERE), "README.md")
 
 
 def read_examples():
@@ -38,7 +40,22 @@ class ExamplesTest(unittest.TestCase):
                 else:
                     self.assertEqual(repr(eval(row, names)), expected)
             told += expected is not None
-        self.assertGreaterEqual(told, 10)
+        self.assertGreaterEqual(told, 16)
+
+    def test_readme(self):
+        with open(README, encoding="ascii") as file:
+            blocks = [block.split("```")[0] for block in file.read().split("```python\n")[1:]]
+        text, names, told = "".join(blocks), {}, 0
+        for node in ast.parse(text).body:
+            row = ast.get_source_segment(text, node)
+            if not isinstance(node, ast.Expr):
+                exec(row, names)
+                continue
+            comment = text.split("\n")[node.end_lineno - 1].partition("  # ")[2]
+            with self.subTest(row=row):
+                self.assertTrue(comment.startswith(repr(eval(row, names))), comment)
+            told += 1
+        self.assertGreaterEqual(told, 12)
 
     def check_error(self, row, names, expected):
         expected = eval(expected, dict(vars(errors)))

@@ -5,7 +5,7 @@ import inspect
 import unittest
 
 from tests.helpers import HALF, LEAN, LINE, NIL, ONE, SPIN, THIRD, large_walk
-from tests.nets import BARS, RING, large_weights
+from tests.nets import BARS, RING, STAR, large_weights
 
 LISTED = {
     "backwalks.walks": {
@@ -28,6 +28,18 @@ LISTED = {
         "with_more": ["weights", "one", "two", "more"], "in_all": ["weights"],
         "there_and_back": ["weights", "one", "two"], "apart_table": ["weights"], "weights_for": ["table"],
     },
+    "backwalks.trees": {
+        "trees_of": ["weights"], "tree_sum": ["weights"], "carried": ["weights", "one", "two", "start", "end"],
+        "lot_chance": ["weights", "ties"],
+    },
+    "backwalks.watched": {
+        "watched_at": ["walk", "lot"], "remains": ["weights", "lot"],
+        "are_alike_at": ["weights", "lot", "other", "row"], "parted_at": ["weights", "lot", "other", "row"],
+    },
+    "backwalks.glasses": {
+        "is_glasses": ["many", "value"], "is_sighted": ["value"], "row_chance": ["sighted", "row"],
+        "state_of": ["sighted", "row"], "sight_of": ["sighted", "row"], "put_together": ["sighted", "glasses"],
+    },
 }
 
 FLOW = ((NIL, ONE, NIL), ((-1, 1), NIL, NIL), (NIL, NIL, NIL))
@@ -36,7 +48,9 @@ GIVEN = {
     "value": [(0, 1, 2), FLOW, LINE, None], "places": [(0, 1, 0)], "ring": [(0, 1, 2)], "walk": [LINE, large_walk(3)],
     "weights": [RING, BARS, large_weights(3)], "one": [0], "two": [1], "lot": [(0, 1), (1,)], "flow": [FLOW],
     "shares": [(THIRD, THIRD, THIRD), (HALF, (1, 4), (1, 4))], "heights": [(ONE, NIL, (-1, 2))], "more": [ONE],
-    "table": [FLOW, ((NIL, HALF), (HALF, NIL))],
+    "table": [FLOW, ((NIL, HALF), (HALF, NIL))], "start": [2], "end": [1], "ties": [((0, 1), (1, 2)), ()],
+    "other": [STAR, RING], "row": [(0, 1), (1,)], "many": [3], "sighted": [(LINE, (0, 1, 2)), (SPIN, (0, 1, 1))],
+    "glasses": [(0, 1, 1), (0, 0, 0)],
 }
 
 

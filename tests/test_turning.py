@@ -9,7 +9,7 @@ from backwalks.backward import backward, is_alike
 from backwalks.errors import InvalidWalk
 from backwalks.turning import are_turns, by_toss, turns_of, two_way
 from backwalks.walks import flows_of, is_walk, shares_of
-from tests.helpers import (ALONE, HALF, LEAN, LINE, NIL, ODD_VALUES, ONE, SPIN, SWAP, THIRD, WHEEL, Odd, check_raises,
+from tests.helpers import (ALONE, HALF, LEAN, LINE, NIL, ODD_VALUES, ONE, SPIN, SWAP, THIRD, WHEEL, Odd, check_given,
                            cycle_walk, exact, is_told_fraction, is_told_table, large_walk, many_walks, nested, pair,
                            walk_of_rows)
 
@@ -243,14 +243,9 @@ class WrongWalksTest(unittest.TestCase):
     def test_no_walk(self):
         wrong = [(), ((HALF,),), ((ONE, NIL), (HALF, HALF)), ((NIL, ONE, ONE), (ONE, NIL, ONE), (ONE, ONE, NIL)),
                  [list(row) for row in SPIN], (SPIN[0], SPIN[1], list(SPIN[2])), SPIN[:2], (((True, 1),),)]
-        for call in (two_way, turns_of, by_toss, lambda walk: are_turns(walk, ()), lambda walk: are_turns(walk, None),
-                     lambda walk: are_turns(value=SPIN_TURNS, walk=walk)):
-            for value in wrong + ODD_VALUES:
-                check_raises(self, InvalidWalk, {"given": value}, lambda: call(value))
-            given = [[ONE]]
-            with self.assertRaises(InvalidWalk) as caught:
-                call(given)
-            self.assertIs(caught.exception.given, given)
+        calls = (two_way, turns_of, by_toss, lambda walk: are_turns(walk, ()), lambda walk: are_turns(walk, None),
+                 lambda walk: are_turns(value=SPIN_TURNS, walk=walk))
+        check_given(self, InvalidWalk, calls, wrong + ODD_VALUES)
 
 
 if __name__ == "__main__":

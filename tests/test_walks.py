@@ -6,9 +6,8 @@ from itertools import product
 
 from backwalks.errors import InvalidPlaces, InvalidWalk
 from backwalks.walks import flows_of, is_walk, seen_chance, shares_of, tree_sums
-from tests.helpers import (ALONE, HALF, LEAN, LINE, MORE, NIL, ODD_VALUES, ONE, SPIN, SWAP, THIRD, WHEEL, check_raises,
-                           exact, is_told_fraction, is_told_row, is_told_table, large_walk, many_walks, pair,
-                           tree_sum_by_hand)
+from tests.helpers import (ALONE, HALF, LEAN, LINE, NIL, ODD_VALUES, ONE, SPIN, SWAP, THIRD, WHEEL, check_raises, exact,
+                           is_told_fraction, is_told_row, is_told_table, large_walk, many_walks, pair, tree_sum_by_hand)
 
 WALKS = many_walks()
 

@@ -8,8 +8,8 @@ from backwalks.backward import backward, is_alike, products, unlike_ring
 from backwalks.errors import InvalidWalk, InvalidWeights, NotAlike
 from backwalks.walks import flows_of, is_walk, shares_of
 from backwalks.weights import is_weights, walk_of, weights_of
-from tests.helpers import (ALONE, HALF, LEAN, LINE, MORE, NIL, ODD_VALUES, ONE, SPIN, SWAP, THIRD, WHEEL, check_raises,
-                           cycle_walk, exact, is_told_table, large_walk, many_walks, pair)
+from tests.helpers import (ALONE, HALF, LEAN, LINE, MORE, NIL, ODD_VALUES, ONE, SPIN, SWAP, THIRD, WHEEL, check_given,
+                           check_raises, cycle_walk, exact, is_told_table, large_walk, many_walks, pair)
 from tests.nets import (ALL_TIES, BARS, BOTH, LET_TIES, LOOP, NO_WEIGHTS, RING, STAR, TIE, TWO, large_weights,
                         many_weights)
 
@@ -67,7 +67,7 @@ class WalkOfTest(unittest.TestCase):
                 self.assertEqual(walk[i][j], pair(numbers[i][j] / sum(numbers[i])))
 
     def test_alike_backwards(self):
-        for weights in WEIGHTS + [large_weights(6)]:
+        for weights in WEIGHTS + [large_weights(4)]:
             walk = walk_of(weights)
             self.assertIs(is_walk(walk), True)
             self.assertEqual([is_alike(walk), backward(walk), unlike_ring(walk)], [True, walk, None])
@@ -92,16 +92,8 @@ class WalkOfTest(unittest.TestCase):
         self.assertEqual([walk_of(weights=BARS), walk_of(RING)[0]], [LINE, (NIL, HALF, HALF)])
 
     def test_no_weights(self):
-        for value in NO_WEIGHTS + ODD_VALUES + [SPIN, LEAN, WHEEL]:
-            check_raises(self, InvalidWeights, {"given": value}, lambda: walk_of(value))
-            check_raises(self, InvalidWeights, {"given": value}, lambda: walk_of(weights=value))
-
-    def test_the_value_itself_is_kept(self):
-        given = [[ONE]]
-        with self.assertRaises(InvalidWeights) as caught:
-            walk_of(given)
-        self.assertIs(caught.exception.given, given)
-        self.assertEqual(given, [[ONE]])
+        calls = (walk_of, lambda value: walk_of(weights=value))
+        check_given(self, InvalidWeights, calls, NO_WEIGHTS + ODD_VALUES + [SPIN, LEAN, WHEEL])
 
 
 class WeightsOfTest(unittest.TestCase):
@@ -143,9 +135,7 @@ class WeightsOfTest(unittest.TestCase):
     def test_no_walk(self):
         wrong = [((HALF,),), RING, BARS, ((ONE, NIL), (HALF, HALF)), ((HALF, THIRD), (HALF, HALF)), [[ONE]],
                  ((NIL, MORE, THIRD),), (SPIN[0], SPIN[1], list(SPIN[2])), LOOP, TIE, ((TWO,),)]
-        for value in wrong + ODD_VALUES:
-            check_raises(self, InvalidWalk, {"given": value}, lambda: weights_of(value))
-        check_raises(self, InvalidWalk, {"given": None}, lambda: weights_of(walk=None))
+        check_given(self, InvalidWalk, (weights_of, lambda value: weights_of(walk=value)), wrong + ODD_VALUES)
 
 
 if __name__ == "__main__":

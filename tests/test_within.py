@@ -10,8 +10,8 @@ from backwalks.errors import InvalidLot, InvalidShares, InvalidWalk, NotWhole
 from backwalks.walks import is_walk, shares_of
 from backwalks.within import fitted, kept
 from tests.helpers import (ALONE, HALF, LEAN, LINE, MORE, NIL, ODD_VALUES, ONE, SPIN, SWAP, THIRD, WHEEL, Odd,
-                           check_raises, cycle_walk, exact, is_told_table, joined, large_walk, many_walks, nested, pair,
-                           walk_of_rows)
+                           check_given, check_raises, cycle_walk, exact, is_told_table, joined, large_walk, many_walks,
+                           nested, pair, walk_of_rows)
 
 WALKS = many_walks() + [large_walk(4)]
 EVEN = tuple(tuple((1, 6) for _ in range(6)) for _ in range(6))
@@ -126,14 +126,10 @@ class KeptTest(unittest.TestCase):
         check_raises(self, InvalidLot, {"given": (0, 1, 3, 4)}, lambda: kept(around, (0, 1, 3, 4)))
 
     def test_no_lots(self):
-        for value in NO_LOTS + [value for value in ODD_VALUES]:
-            check_raises(self, InvalidLot, {"given": value}, lambda: kept(EVEN, value))
+        check_given(self, InvalidLot, (lambda lot: kept(EVEN, lot), lambda lot: kept(lot=lot, walk=EVEN)),
+                    NO_LOTS + ODD_VALUES)
         check_raises(self, InvalidLot, {"given": (0, 3)}, lambda: kept(SPIN, (0, 3)))
         check_raises(self, InvalidLot, {"given": (1,)}, lambda: kept(ALONE, (1,)))
-        given = [0, 1]
-        with self.assertRaises(InvalidLot) as caught:
-            kept(SPIN, given)
-        self.assertIs(caught.exception.given, given)
 
     def test_two_wrong_arguments(self):
         for lot in (None, (), (0, 2), [0], (7,)):
@@ -230,13 +226,8 @@ class WrongWalksTest(unittest.TestCase):
     def test_no_walk(self):
         wrong = [(), ((HALF,),), ((ONE, NIL), (HALF, HALF)), ((NIL, ONE, ONE), (ONE, NIL, ONE), (ONE, ONE, NIL)),
                  [list(row) for row in SPIN], (SPIN[0], SPIN[1], list(SPIN[2])), SPIN[:2], (((True, 1),),)]
-        for call in (lambda walk: kept(walk, (0,)), lambda walk: fitted(walk, (ONE,))):
-            for value in wrong + ODD_VALUES:
-                check_raises(self, InvalidWalk, {"given": value}, lambda: call(value))
-            given = [[ONE]]
-            with self.assertRaises(InvalidWalk) as caught:
-                call(given)
-            self.assertIs(caught.exception.given, given)
+        calls = (lambda walk: kept(walk, (0,)), lambda walk: fitted(walk, (ONE,)))
+        check_given(self, InvalidWalk, calls, wrong + ODD_VALUES)
 
 
 if __name__ == "__main__":
