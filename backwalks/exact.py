@@ -172,3 +172,31 @@ def inverse(square):
     """The inverse of a square of fractions; None if its determinant is 0."""
     places = range(len(square))
     return solved(square, [[ONE if here == there else NIL for there in places] for here in places])
+
+
+def shortened(numbers):
+    """The row of whole numbers over its greatest common divisor."""
+    shared = 0
+    for number in numbers:
+        shared = gcd(shared, number)
+    # A row of 0 alone has the divisor 0, and stays.
+    return [number // shared for number in numbers] if shared > 1 else numbers
+
+
+def first_other_than_nil(numbers):
+    """The first index at which a row of whole numbers, not 0 alone, is not 0."""
+    return [number != 0 for number in numbers].index(True)
+
+
+def left_over(numbers, leads):
+    """What is left of a row of whole numbers when each of the leads has cleared its first column from it.
+
+    Of leads that are each what was left over of a row, those ahead cleared, it is 0 alone exactly if the row is a
+    combination of them.
+    """
+    result = numbers
+    for lead in leads:
+        at = first_other_than_nil(lead)
+        # Shortened each time, as it would grow with each lead otherwise.
+        result = shortened([number * lead[at] - result[at] * top for number, top in zip(result, lead)])
+    return result

@@ -1,9 +1,9 @@
-"""Fractions and determinants."""
+"""Fractions, determinants and what is left of rows."""
 
 import random
 import unittest
 from fractions import Fraction
-from itertools import permutations
+from itertools import combinations, permutations
 
 from backwalks import exact
 from tests.helpers import ODD_VALUES, pair
@@ -122,6 +122,35 @@ class ReckoningTest(unittest.TestCase):
                     self.check_inverse(square)
                 self.assertEqual(square, before)
         self.assertGreater(none, 30)
+
+    def test_shortened(self):
+        for numbers, expected in (([4, -6, 0], [2, -3, 0]), ([0, 0], [0, 0]), ([5], [1]), ([-5], [-1]), ([3, 7],
+        [3, 7]),
+                                  ([], []), ([0, -9], [0, -1]), ([10 ** 50, 10 ** 49], [10, 1])):
+            self.assertEqual(exact.shortened(numbers), expected)
+
+    def test_first_other_than_nil(self):
+        for numbers, expected in (([0, 0, 3], 2), ([1], 0), ([0, -1, 1], 1)):
+            self.assertEqual(exact.first_other_than_nil(numbers), expected)
+
+    def test_left_over(self):
+        source = random.Random(6)
+        self.assertEqual([exact.left_over([4, 6], []), exact.left_over([0, 6], [[0, -2]])], [[4, 6], [0, 0]])
+        for _ in range(300):
+            many = source.randint(1, 5)
+            rows = [[source.choice((0, 0, 1, -2, 3)) for _ in range(many)] for _ in range(many)]
+            leads, taken = [], []
+            for row in rows:
+                left = exact.left_over(row, leads)
+                if any(left):
+                    leads.append(left)
+                    taken.append(row)
+            # As many as are taken are a square with a determinant other than 0 in some columns; no more are.
+            for size in (len(taken), len(taken) + 1):
+                squares = [[[Fraction(row[at]) for at in columns] for row in chosen]
+                           for chosen in ([taken] if size == len(taken) else combinations(rows, size))
+                           for columns in combinations(range(many), size)]
+                self.assertIs(any(determinant_by_hand(square) for square in squares), size == len(taken))
 
     def check_inverse(self, square):
         many, told = len(square), exact.inverse(square)

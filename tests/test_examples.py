@@ -40,7 +40,7 @@ class ExamplesTest(unittest.TestCase):
                 else:
                     self.assertEqual(repr(eval(row, names)), expected)
             told += expected is not None
-        self.assertGreaterEqual(told, 16)
+        self.assertEqual(told, 29)
 
     def test_readme(self):
         with open(README, encoding="ascii") as file:

@@ -40,6 +40,20 @@ LISTED = {
         "is_glasses": ["many", "value"], "is_sighted": ["value"], "row_chance": ["sighted", "row"],
         "state_of": ["sighted", "row"], "sight_of": ["sighted", "row"], "put_together": ["sighted", "glasses"],
     },
+    "backwalks.seen": {
+        "basis": ["one", "other"], "parting": ["one", "other"], "seen_alike": ["one", "other"],
+        "both_ways": ["sighted"], "telling": ["sighted"], "rank": ["sighted"], "heads": ["sighted"],
+        "tails": ["sighted"],
+    },
+    "backwalks.language": {"is_told": ["value"], "read_told": ["text"], "told_text": ["told"]},
+}
+# Of each class the parameters of its making, and those of its methods.
+CLASSES = {
+    "backwalks.desks": {"Desk": (["told"], {
+        "put": ["name", "row"], "tie": ["name", "other", "number"], "look": ["glasses"], "undo": [], "trial": [],
+        "tried": ["action"], "__len__": [],
+    })},
+    "backwalks.consoles": {"Console": (["desk"], {"say": ["line"]})},
 }
 
 FLOW = ((NIL, ONE, NIL), ((-1, 1), NIL, NIL), (NIL, NIL, NIL))
@@ -50,7 +64,12 @@ GIVEN = {
     "shares": [(THIRD, THIRD, THIRD), (HALF, (1, 4), (1, 4))], "heights": [(ONE, NIL, (-1, 2))], "more": [ONE],
     "table": [FLOW, ((NIL, HALF), (HALF, NIL))], "start": [2], "end": [1], "ties": [((0, 1), (1, 2)), ()],
     "other": [STAR, RING], "row": [(0, 1), (1,)], "many": [3], "sighted": [(LINE, (0, 1, 2)), (SPIN, (0, 1, 1))],
-    "glasses": [(0, 1, 1), (0, 0, 0)],
+    "glasses": [(0, 1, 1), (0, 0, 0)], "text": ["weights\nplaces a\na - a 1"],
+    "told": [("walk", LINE, (1, 0, 0), ("a", "b", "c")), ("weights", RING, None, ("a", "b", "c"))],
+}
+# In some modules a name stands for something else.
+ELSEWHERE = {
+    "backwalks.seen": {"one": [(LINE, (0, 1, 1)), (SPIN, (1, 0, 1))], "other": [(SPIN, (0, 0, 1)), (LEAN, (0, 1))]},
 }
 
 
@@ -61,10 +80,11 @@ def listed():
             yield module, getattr(importlib.import_module(module), name), parameters
 
 
-def choices(parameters):
+def choices(module, parameters):
     """Arguments for the parameters, by name, in their order."""
-    most = max(len(GIVEN[name]) for name in parameters)
-    return [{name: GIVEN[name][at % len(GIVEN[name])] for name in parameters} for at in range(most)]
+    given = {**GIVEN, **ELSEWHERE.get(module, {})}
+    most = max(len(given[name]) for name in parameters)
+    return [{name: given[name][at % len(given[name])] for name in parameters} for at in range(most)]
 
 
 class InterfaceTest(unittest.TestCase):
@@ -81,9 +101,24 @@ class InterfaceTest(unittest.TestCase):
                 self.assertIs(parameter.kind, inspect.Parameter.POSITIONAL_OR_KEYWORD)
                 self.assertIs(parameter.default, inspect.Parameter.empty)
 
+    def test_classes(self):
+        for module, classes in CLASSES.items():
+            for name, (parameters, methods) in classes.items():
+                told = getattr(importlib.import_module(module), name)
+                self.assertEqual(told.__module__, module)
+                self.assertEqual(list(inspect.signature(told).parameters), parameters)
+                for method, expected in methods.items():
+                    function = vars(told)[method]
+                    self.assertEqual(function.__module__, module)
+                    found = inspect.signature(function).parameters
+                    self.assertEqual(list(found), ["self"] + expected)
+                    for parameter in found.values():
+                        self.assertIs(parameter.kind, inspect.Parameter.POSITIONAL_OR_KEYWORD)
+                        self.assertIs(parameter.default, inspect.Parameter.empty)
+
     def test_equal_calls_return_equal_results(self):
-        for _, function, parameters in listed():
-            for given in choices(parameters):
+        for module, function, parameters in listed():
+            for given in choices(module, parameters):
                 if function.__name__ == "weights_of" and given["walk"] != LINE:
                     continue
                 before = repr(given)

@@ -12,10 +12,10 @@ LIBRARY = {
 }
 BUILTINS = set("""
     len range enumerate zip min max sum abs sorted reversed int str bool bytes list tuple dict set frozenset isinstance
-    ord repr any all divmod iter next map Exception ValueError TypeError KeyError IndexError LookupError
+    ord repr any all divmod iter next map property Exception ValueError TypeError KeyError IndexError LookupError
     ZeroDivisionError ArithmeticError OverflowError RuntimeError NotImplementedError StopIteration NotImplemented
 """.split())
-METHODS = {"__init__", "__eq__", "__repr__", "__str__", "__len__", "__enter__", "__exit__", "__call__", "__bool__"}
+METHODS = {"__init__", "__len__", "__enter__", "__exit__", "__bool__"}
 NO_NODES = (ast.AsyncFunctionDef, ast.AsyncFor, ast.AsyncWith, ast.Await, ast.Global, ast.Div, ast.MatMult, ast.Import)
 NO_WORDS = ["type", "typing", "enum", "Enum", "Flag", "Generic", "Protocol", "ABC", "namedtuple", "dataclass", "mro",
             "elements", "open", "input", "law", "register", "eval", "exec", "vars", "globals", "locals", "super"]
@@ -127,7 +127,8 @@ class RulesTest(unittest.TestCase):
     def test_nodes(self):
         self.assertEqual([(name, node.lineno) for name, node in nodes_of(*NO_NODES)], [])
         for name, node in nodes_of(ast.FunctionDef):
-            self.assertEqual(node.decorator_list, [], (name, node.name))
+            told = [ast.unparse(each) for each in node.decorator_list]
+            self.assertIn(told, ([], ["property"]), (name, node.name))
         for name, node in nodes_of(ast.Constant):
             self.assertNotIsInstance(node.value, (float, complex), (name, node.lineno))
         for name, node in nodes_of(ast.Attribute):
@@ -160,6 +161,35 @@ class RulesTest(unittest.TestCase):
                         self.assertTrue(told, (name, child.lineno))
         self.assertEqual([name for name, node in nodes_of(ast.Constant)
                           if isinstance(node.value, str) and "%" in node.value], [])
+
+    def test_withs(self):
+        for name, node in nodes_of(ast.FunctionDef):
+            if node.name == "__exit__":
+                self.assertEqual([each.arg for each in node.args.args], ["self", "kind", "value", "trace"], name)
+                for each in ast.walk(node):
+                    kinds = (ast.Call, ast.BinOp, ast.Subscript, ast.Return, ast.Raise, ast.For, ast.While, ast.Try)
+                    self.assertNotIsInstance(each, kinds, (name, node.lineno))
+        for name, node in nodes_of(ast.Try):
+            self.assertEqual((name, node.lineno), None)
+
+    def test_tables_of_functions(self):
+        # A function is taken out of a table by a statement of its own, and only then called.
+        for name, node in nodes_of(ast.Call):
+            self.assertNotIsInstance(node.func, ast.Subscript, (name, node.lineno))
+
+    def test_properties(self):
+        read = {node.name for _, node in nodes_of(ast.FunctionDef) if node.decorator_list}
+        stored = {node.attr for _, node in nodes_of(ast.Attribute) if not isinstance(node.ctx, ast.Load)}
+        called = {node.func.attr for _, node in nodes_of(ast.Call) if isinstance(node.func, ast.Attribute)}
+        self.assertFalse(read & (stored | called))
+        methods = {node.name for _, each in nodes_of(ast.ClassDef) for node in each.body
+                   if isinstance(node, ast.FunctionDef) and not node.decorator_list}
+        self.assertFalse(methods & stored)
+        # No method is read without being called.
+        calls = [node.func for _, node in nodes_of(ast.Call)]
+        for name, node in nodes_of(ast.Attribute):
+            if isinstance(node.ctx, ast.Load) and node.attr in methods:
+                self.assertTrue(any(node is each for each in calls), (name, node.lineno))
 
     def test_is(self):
         for name, node in nodes_of(ast.Compare):

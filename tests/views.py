@@ -5,7 +5,7 @@ from fractions import Fraction
 from functools import lru_cache
 from itertools import product
 
-from tests.helpers import ALONE, LEAN, LINE, SPIN, SWAP, WHEEL, exact, many_walks
+from tests.helpers import ALONE, LEAN, LINE, SPIN, SWAP, WHEEL, exact, many_walks, pair
 from tests.nets import solve_by_hand
 
 DIM, CLEAR = (WHEEL, (0, 0, 1)), (WHEEL, (0, 1, 2))
@@ -69,3 +69,87 @@ def chance_by_hand(sighted, row):
             chance *= table[here][there]
         found += chance
     return found
+
+
+@lru_cache(maxsize=None)
+def state_by_hand(sighted, row):
+    """The state of the row, mark by mark."""
+    if not row:
+        return at_rest_by_hand(sighted[0])
+    ahead, table = state_by_hand(sighted, row[:-1]), fractions_of(sighted[0])
+    places = range(len(table))
+    return [sum(ahead[i] * table[i][j] for i in places) if sighted[1][j] == row[-1] else Fraction(0) for j in places]
+
+
+@lru_cache(maxsize=None)
+def fractions_of(walk):
+    return exact(walk)
+
+
+def chance_of(sighted, row):
+    """The chance of the row, by its state."""
+    return sum(state_by_hand(sighted, row))
+
+
+def joined_by_hand(one, other, row):
+    """The joined state of the row."""
+    return state_by_hand(one, row) + [-number for number in state_by_hand(other, row)]
+
+
+def parting_by_hand(one, other, length):
+    """The first row, in order, of unlike chances, of all rows of up to so many marks."""
+    for row in rows_up_to(one, length):
+        if chance_of(one, row) != chance_of(other, row):
+            return row
+    return None
+
+
+class Span:
+    """Rows of numbers, and what is a combination of them."""
+
+    def __init__(self):
+        self.leads = []
+
+    def takes(self, numbers):
+        """Take the row of numbers, if it is no combination of those that were taken."""
+        left = [Fraction(number) for number in numbers]
+        for at, lead in self.leads:
+            if left[at]:
+                left = [number - left[at] * top for number, top in zip(left, lead)]
+        at = next((at for at, number in enumerate(left) if number), None)
+        if at is not None:
+            self.leads.append((at, [number / left[at] for number in left]))
+        return at is not None
+
+
+def taken_by_hand(rows, numbers_of):
+    """The rows whose numbers are no combination of those of rows taken ahead."""
+    span = Span()
+    return tuple(row for row in rows if span.takes(numbers_of(row)))
+
+
+def moved(sighted, order):
+    """The same with the places in another order."""
+    walk, glasses = sighted
+    return (tuple(tuple(walk[i][j] for j in order) for i in order), tuple(glasses[i] for i in order))
+
+
+def doubled(sighted, place, part):
+    """The same with a second place like this one, which has this part of all that comes."""
+    walk, glasses = sighted
+    rows = []
+    for row in walk + (walk[place],):
+        chance = Fraction(*row[place])
+        rows.append(row[:place] + (pair(chance * (1 - part)),) + row[place + 1:] + (pair(chance * part),))
+    return (tuple(rows), glasses + (glasses[place],))
+
+
+def one_moved(sighted, source, by):
+    """The same with a little of one chance moved to another place."""
+    walk, glasses = sighted
+    row = source.randrange(len(walk))
+    here, there = source.sample(range(len(walk)), 2)
+    told = [Fraction(*number) for number in walk[row]]
+    by = min(by, told[here] / 2)
+    told[here], told[there] = told[here] - by, told[there] + by
+    return (walk[:row] + (tuple(pair(number) for number in told),) + walk[row + 1:], glasses)
