@@ -112,6 +112,11 @@ def scaled_by(row, number):
     return [top * (number // bottom) for top, bottom in row]
 
 
+def multiplied(numbers, factor):
+    """The row of whole numbers times a whole number."""
+    return [number * factor for number in numbers]
+
+
 def whole_dot(one, other):
     """The sum, place by place, of two rows of whole numbers multiplied."""
     return sum([number * factor for number, factor in zip(one, other)])

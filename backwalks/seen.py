@@ -2,7 +2,7 @@
 
 from backwalks.backward import backward
 from backwalks.errors import InvalidSighted
-from backwalks.exact import NIL, left_over, opposite, scaled_row, shortened, whole_dot
+from backwalks.exact import NIL, left_over, multiplied, opposite, scaled_row, shortened, whole_dot
 from backwalks.glasses import check_sighted, is_sighted, masked, number_of_marks, whole_chances
 from backwalks.walks import shares_of
 
@@ -78,6 +78,29 @@ def joined_states(one, other):
     check_other(one, other)
     table = joined_table(one, other)
     return states_taken(table, one[1] + other[1], joined_shares(one, other), units(len(table)))
+
+
+def states_and_steps(one, other, rows):
+    """The joined states of the rows, and of each of them those with each mark behind it, all times one number above 0.
+
+    The first row is (), each other one is one of those ahead of it and a mark.
+    """
+    chances, bottom = whole_chances(joined_table(one, other))
+    columns, glasses = list(zip(*chances)), one[1] + other[1]
+    numbers, gone, scales = {}, {}, [1]
+    for row in rows:
+        numbers[row] = scaled_row(joined_shares(one, other)) if row == () else masked(gone[row[:-1]], glasses, row[-1])
+        gone[row] = [whole_dot(numbers[row], column) for column in columns]
+    # Each mark has multiplied by the same number once more.
+    longest = max([len(row) for row in rows])
+    for _ in range(longest + 1):
+        scales.append(scales[-1] * bottom)
+    states, steps = [], []
+    for row in rows:
+        states.append(multiplied(numbers[row], scales[longest + 1 - len(row)]))
+        behind = multiplied(gone[row], scales[longest - len(row)])
+        steps.append([masked(behind, glasses, mark) for mark in range(number_of_marks(one))])
+    return (states, steps)
 
 
 def basis(one, other):

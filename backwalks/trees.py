@@ -52,6 +52,11 @@ def list_of_trees(weights):
     return joining(ties_of(weights), len(weights), len(weights) - 1)
 
 
+def trees_with(weights, ties):
+    """The tuple of all trees, in order, in which all these ties lie."""
+    return tuple([tree for tree in list_of_trees(weights) if all([tie in tree for tie in ties])])
+
+
 def trees_of(weights):
     """All trees with their chances, in order."""
     check_weights(weights)

@@ -57,7 +57,7 @@ def is_told_fraction(value):
     """Whether it is just what a fraction is told by."""
     if type(value) is not tuple or len(value) != 2 or type(value[0]) is not int or type(value[1]) is not int:
         return False
-    return pair(Fraction(*value)) == value
+    return value[1] != 0 and pair(Fraction(*value)) == value
 
 
 def is_told_table(value, many):

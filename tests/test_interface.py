@@ -46,6 +46,15 @@ LISTED = {
         "tails": ["sighted"],
     },
     "backwalks.language": {"is_told": ["value"], "read_told": ["text"], "told_text": ["told"]},
+    "backwalks.checker": {"accepts": ["claim", "paper"]},
+    "backwalks.certificates": {"certify_way": ["walk"], "certify_turns": ["walk"]},
+    "backwalks.certifyweights": {
+        "certify_apart": ["weights", "one", "two", "number"], "certify_trees": ["weights", "ties"],
+        "certify_places": ["weights", "lot", "other", "row"],
+    },
+    "backwalks.certifyseen": {
+        "certify_seen": ["one", "other"], "certify_sight": ["sighted"], "certify_rank": ["sighted"],
+    },
 }
 # Of each class the parameters of its making, and those of its methods.
 CLASSES = {
@@ -65,12 +74,13 @@ GIVEN = {
     "table": [FLOW, ((NIL, HALF), (HALF, NIL))], "start": [2], "end": [1], "ties": [((0, 1), (1, 2)), ()],
     "other": [STAR, RING], "row": [(0, 1), (1,)], "many": [3], "sighted": [(LINE, (0, 1, 2)), (SPIN, (0, 1, 1))],
     "glasses": [(0, 1, 1), (0, 0, 0)], "text": ["weights\nplaces a\na - a 1"],
+    "number": [ONE, (1, 10 ** 60)], "claim": [("alike", LINE), ("told by none", FLOW), ["alike", LINE]],
+    "paper": [BARS, (), [()]],
     "told": [("walk", LINE, (1, 0, 0), ("a", "b", "c")), ("weights", RING, None, ("a", "b", "c"))],
 }
 # In some modules a name stands for something else.
-ELSEWHERE = {
-    "backwalks.seen": {"one": [(LINE, (0, 1, 1)), (SPIN, (1, 0, 1))], "other": [(SPIN, (0, 0, 1)), (LEAN, (0, 1))]},
-}
+SEEN = {"one": [(LINE, (0, 1, 1)), (SPIN, (1, 0, 1))], "other": [(SPIN, (0, 0, 1)), (LEAN, (0, 1))]}
+ELSEWHERE = {"backwalks.seen": SEEN, "backwalks.certifyseen": SEEN}
 
 
 def listed():

@@ -170,7 +170,8 @@ class RulesTest(unittest.TestCase):
                     kinds = (ast.Call, ast.BinOp, ast.Subscript, ast.Return, ast.Raise, ast.For, ast.While, ast.Try)
                     self.assertNotIsInstance(each, kinds, (name, node.lineno))
         for name, node in nodes_of(ast.Try):
-            self.assertEqual((name, node.lineno), None)
+            self.assertEqual([ast.unparse(each.type) for each in node.handlers], ["WalkError"], (name, node.lineno))
+            self.assertEqual([node.finalbody, node.orelse], [[], []], (name, node.lineno))
 
     def test_tables_of_functions(self):
         # A function is taken out of a table by a statement of its own, and only then called.
