@@ -1,7 +1,7 @@
 """Claims with papers for the checker: what is seen alike, what is seen both ways, and how many places show it."""
 
 from backwalks.backward import backward
-from backwalks.exact import first_other_than_nil, left_over, solved
+from backwalks.exact import first_other_than_nil, left_over, lowest, shared_divisor, shortened, solved, times
 from backwalks.seen import basis, heads, parting, states_and_steps, tails, telling
 
 
@@ -18,15 +18,25 @@ def as_fractions(rows):
     return [[(number, 1) for number in row] for row in rows]
 
 
+def combinations_of(states, steps):
+    """For each of the steps the row of fractions with which the states, added up, are the step."""
+    columns = telling_columns(states)
+    # Solved for what is left when common divisors are taken out: they would make all numbers far longer.
+    square = [[shortened(state)[column] for state in states] for column in columns]
+    sides = [[shortened(step)[column] for step in steps] for column in columns]
+    found = solved(as_fractions(square), as_fractions(sides))
+    rows, divisors = [], [shared_divisor(state) for state in states]
+    for step, numbers in zip(steps, list(zip(*found))):
+        shared = shared_divisor(step)
+        rows.append(tuple([times(number, lowest(shared, divisor)) for number, divisor in zip(numbers, divisors)]))
+    return rows
+
+
 def basis_paper(one, other):
     """The basis, and for each of its rows, and each mark behind it, what combination of the basis its state is."""
     rows = basis(one, other)
     states, steps = states_and_steps(one, other, rows)
-    columns, wanted = telling_columns(states), [step for behind in steps for step in behind]
-    square = [[state[column] for state in states] for column in columns]
-    sides = [[step[column] for step in wanted] for column in columns]
-    found = list(zip(*solved(as_fractions(square), as_fractions(sides))))
-    marks = len(steps[0])
+    found, marks = combinations_of(states, [step for behind in steps for step in behind]), len(steps[0])
     return (rows, tuple([tuple(found[at * marks:(at + 1) * marks]) for at in range(len(rows))]))
 
 

@@ -5,7 +5,7 @@ from backwalks.backward import backward, products
 from backwalks.errors import WalkError
 from backwalks.exact import NIL, ONE, common_bottom, determinant, is_below, is_fraction, is_fraction_row, is_place
 from backwalks.exact import multiplied, scaled_by, times, whole_dot
-from backwalks.glasses import check_marks, check_sighted, number_of_marks, row_chance
+from backwalks.glasses import check_sighted, number_of_marks, row_chance
 from backwalks.language import is_told, read_told
 from backwalks.seen import check_other, states_and_steps
 from backwalks.trees import check_ties, lot_chance, trees_with
@@ -191,9 +191,8 @@ def both_ways_holds(sighted, paper):
 
 
 def one_way_holds(sighted, paper):
-    check_sighted(sighted)
-    check_marks(sighted, paper)
-    return row_chance(sighted, paper) != row_chance(sighted, paper[::-1])
+    chance = row_chance(sighted, paper)
+    return chance != row_chance(sighted, paper[::-1])
 
 
 def are_halves(sighted, rows, size):

@@ -179,12 +179,17 @@ def inverse(square):
     return solved(square, [[ONE if here == there else NIL for there in places] for here in places])
 
 
-def shortened(numbers):
-    """The row of whole numbers over its greatest common divisor."""
+def shared_divisor(numbers):
+    """The greatest common divisor of a row of whole numbers, 0 for a row of 0 alone."""
     shared = 0
     for number in numbers:
         shared = gcd(shared, number)
-    # A row of 0 alone has the divisor 0, and stays.
+    return shared
+
+
+def shortened(numbers):
+    """The row of whole numbers over its greatest common divisor."""
+    shared = shared_divisor(numbers)
     return [number // shared for number in numbers] if shared > 1 else numbers
 
 

@@ -254,9 +254,9 @@ def rows_of_ties(names, body):
     """The rows of weights, as the lines of ties tell them."""
     places = range(len(names))
     table = [[NIL for _ in places] for _ in places]
-    for index, (name, other, (number, _)) in enumerate(body):
+    for index, (name, other, number) in enumerate(body):
         here, there = place_of(names, name, index + 2), place_of(names, other, index + 2)
-        table[here][there] = plus(table[here][there], number)
+        table[here][there] = plus(table[here][there], number[0])
         table[there][here] = table[here][there]
     return table
 

@@ -39,7 +39,8 @@ def units(many):
 
 def states_taken(table, glasses, start, views):
     """The rows that are taken by their states, each with it, times some number above 0."""
-    columns, marks = list(zip(*whole_chances(table)[0])), list(range(max(glasses) + 1))
+    rows, _ = whole_chances(table)
+    columns, marks = list(zip(*rows)), list(range(max(glasses) + 1))
 
     def longer(row, numbers):
         gone = shortened([whole_dot(numbers, column) for column in columns])
@@ -50,7 +51,8 @@ def states_taken(table, glasses, start, views):
 
 def sights_taken(table, glasses, views):
     """The rows that are taken by their sights, each with it, times some number above 0."""
-    rows, marks = whole_chances(table)[0], list(range(max(glasses) + 1))
+    rows, _ = whole_chances(table)
+    marks = list(range(max(glasses) + 1))
 
     def longer(row, numbers):
         behind = [((mark,) + row, masked(numbers, glasses, mark)) for mark in marks]

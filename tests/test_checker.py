@@ -272,6 +272,9 @@ class SeenTest(CheckerCase):
                                ([(), (0,)], False), (((), (0,), (0, 0)), False), (((),), False), ((), False),
                                (None, False)):
             self.check(("seen alike", one, other), (rows, (part, part)), expected)
+        for rows in (((0,),), ((0,), (0, 0)), ((0, 0),), ((0,), (0,))):
+            even = ((tuple(pair(Fraction(1, len(rows))) for _ in rows),),) * len(rows)
+            self.check(("seen alike", one, other), (rows, even), False)
         # The same row told twice is one of those ahead and a mark, too.
         part = ((NIL, HALF, HALF),)
         self.check(("seen alike", one, other), (((), (0,), (0,)), (part, part, part)), True)
@@ -311,6 +314,24 @@ class SeenTest(CheckerCase):
         self.assertEqual(parting(one, other), (0,))
         self.check(("row", other, (0, 1), (1, 4)), (), True)
         self.check(("row", one, (0, 1), (1, 4)), (), False)
+
+
+class ReadsTest(CheckerCase):
+
+    def test_texts(self):
+        text, names = "walk\nplaces a b\nb: a 1\na: b 1\n= b", ("a", "b")
+        self.check(("reads", text, ("walk", SWAP, (1, 0), names)), (), True)
+        for told in (("walk", SWAP, (True, 0), names), ("walk", SWAP, (1, False), names), ("walk", SWAP, (0, 1), names),
+                     ("walk", (((0, True), ONE), (ONE, NIL)), (1, 0), names), ("walk", SWAP, (1, 0), ("b", "a")),
+                     ("walk", SWAP, None, names), ("weights", SWAP, (1, 0), names), ("walk", SWAP, (1, 0)),
+                     ["walk", SWAP, (1, 0), names], ("walk", SWAP, (1, 0), ["a", "b"]), None, text):
+            self.check(("reads", text, told), (), False)
+        for wrong in (text + "\n", text[:-1], "walk", "", text.encode(), None, text.replace("b: a 1", "b: a 2")):
+            self.check(("reads", wrong, ("walk", SWAP, (1, 0), names)), (), False)
+        # What reads otherwise, and tells the same.
+        for other in (text.replace("b: a 1", "b: a rest"), text.replace("a: b 1", "a: a 0/3, b 7/7"), text + "; a"):
+            self.check(("reads", other, ("walk", SWAP, (1, 0), names)), (), True)
+            self.check(("reads", other, ("walk", SWAP, (1, 0), names)), None, False)
 
 
 class LargeTest(CheckerCase):

@@ -128,6 +128,10 @@ class ReckoningTest(unittest.TestCase):
         [3, 7]),
                                   ([], []), ([0, -9], [0, -1]), ([10 ** 50, 10 ** 49], [10, 1])):
             self.assertEqual(exact.shortened(numbers), expected)
+            shared = exact.shared_divisor(numbers)
+            self.assertEqual([number * shared for number in expected], numbers)
+        self.assertEqual([exact.shared_divisor(row) for row in ([], [0, 0], [-6, 4], [0, 7])], [0, 0, 2, 7])
+        self.assertEqual([exact.multiplied([1, -2, 0], 3), exact.multiplied([], 3)], [[3, -6, 0], []])
 
     def test_first_other_than_nil(self):
         for numbers, expected in (([0, 0, 3], 2), ([1], 0), ([0, -1, 1], 1)):

@@ -162,6 +162,16 @@ class RulesTest(unittest.TestCase):
         self.assertEqual([name for name, node in nodes_of(ast.Constant)
                           if isinstance(node.value, str) and "%" in node.value], [])
 
+    def test_stars(self):
+        # A star stands over a name, an attribute or a literal alone.
+        for name, node in nodes_of(ast.Call):
+            for each in node.args:
+                if isinstance(each, ast.Starred):
+                    self.assertIsInstance(each.value, (ast.Name, ast.Attribute, ast.List, ast.Tuple), (name, node.lineno))
+            # What is iterated at once is the first argument of what iterates it.
+            for each in node.args[1:]:
+                self.assertFalse(is_call_of(each, AT_ONCE - {"range"}), (name, node.lineno))
+
     def test_withs(self):
         for name, node in nodes_of(ast.FunctionDef):
             if node.name == "__exit__":
