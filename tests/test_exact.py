@@ -132,6 +132,7 @@ class ReckoningTest(unittest.TestCase):
             self.assertEqual([number * shared for number in expected], numbers)
         self.assertEqual([exact.shared_divisor(row) for row in ([], [0, 0], [-6, 4], [0, 7])], [0, 0, 2, 7])
         self.assertEqual([exact.multiplied([1, -2, 0], 3), exact.multiplied([], 3)], [[3, -6, 0], []])
+        self.assertEqual([exact.whole_dot([1, -2, 0], (3, 4, 5)), exact.whole_dot([], [])], [-5, 0])
 
     def test_first_other_than_nil(self):
         for numbers, expected in (([0, 0, 3], 2), ([1], 0), ([0, -1, 1], 1)):
